@@ -1,0 +1,1 @@
+"""Askfurther: bodies that ask, handlers that answer."""
