@@ -3,7 +3,7 @@
 from askfurther.errors import BadBody, BadHistory, BadOperations, BadOthers, BadStart, NoRow
 from askfurther.forms import are_nexts, are_operations, in_order, is_index, is_name, is_row, is_text_in
 from askfurther.forms import joined, word_of
-from askfurther.machines import Machine, followed
+from askfurther.machines import Machine, are_equal, followed
 
 MOST_ROWS = 400
 MOST_OTHERS = 8
@@ -68,10 +68,7 @@ class Body:
         return is_text_in(operation, self.machine.asks)
 
     def __eq__(self, other):
-        if not isinstance(other, Body):
-            return False
-        one, two = self.machine, other.machine
-        return one.counts == two.counts and one.lines == two.lines and one.begin == two.begin
+        return isinstance(other, Body) and are_equal(self.machine, other.machine)
 
 
 def body_of(machine):

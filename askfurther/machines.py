@@ -19,6 +19,11 @@ class Machine:
         self.endless = "go" in [line[0] for line in rests]
 
 
+def are_equal(one, other):
+    """Whether two machines have the same operations, rows and start."""
+    return one.counts == other.counts and one.lines == other.lines and one.begin == other.begin
+
+
 def stops_of(lines):
     """For each row the one at which it rests."""
     stops = [-1] * len(lines)
@@ -67,7 +72,7 @@ def nexts_of(line):
 
 def firsts_of(lines, word):
     """What stands behind this word in the rows that begin with it, sorted, each once."""
-    return sorted(list({line[1]: True for line in lines if line[0] == word}))
+    return sorted({line[1]: True for line in lines if line[0] == word})
 
 
 def trimmed(counts, lines, begin):
@@ -106,7 +111,7 @@ def begin_among(lines, placed, other):
     Equal machines share their rows: a body put behind several words would else grow by each of them.
     """
     for earlier, begin in placed:
-        if earlier.begin == other.begin and earlier.lines == other.lines:
+        if are_equal(earlier, other):
             return begin
     shift = len(lines)
     lines.extend([shifted(line, shift) for line in other.lines])
