@@ -22,8 +22,8 @@ class BadBody(AskError):
 class BadStart(AskError):
     """This is no index of a row at which a body could start."""
 
-    def __init__(self, start):
-        self.start = start
+    def __init__(self, index):
+        self.index = index
 
 
 class NoRow(AskError):

@@ -180,7 +180,7 @@ class Refused(Checks):
     def test_bad_start(self):
         for start in NO_INTEGERS + INTEGERS + [4, 400, -4]:
             error = self.refused(BadStart, lambda: Body(OPERATIONS, ROWS_OF_TOSS, start=start), start)
-            self.assertIs(error.start, start)
+            self.assertIs(error.index, start)
         self.assertEqual(Body(OPERATIONS, ROWS_OF_TOSS, start=3).asked(), ["fail"])
 
     def test_order_of_the_checks(self):

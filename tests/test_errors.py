@@ -7,7 +7,7 @@ from askfurther import errors
 from tests.odd import nested
 
 FIELDS = {
-    "BadOperations": None, "BadBody": "index", "BadStart": "start", "NoRow": "index", "BadOthers": None,
+    "BadOperations": None, "BadBody": "index", "BadStart": "index", "NoRow": "index", "BadOthers": None,
     "BadHistory": "index", "BadSizes": None, "BadProgram": "place", "BadHandler": "part", "Mismatch": "operation",
     "TooMany": "many", "Parted": "history", "NoState": "state", "NoOperation": "operation", "Apart": "asks",
     "BadAnswer": "answer", "BadChoices": "index", "BadCount": "many", "NoIndex": "index", "Endless": None,

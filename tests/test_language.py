@@ -75,6 +75,18 @@ class Language(unittest.TestCase):
                     attributes.add(node.attr)
         self.assertEqual(methods & attributes, set())
 
+    def test_no_property_without_a_setter_is_assigned(self):
+        properties, attributes = set(), set()
+        for _, _, tree in self.each():
+            for node in ast.walk(tree):
+                if isinstance(node, ast.FunctionDef) and node.decorator_list:
+                    self.assertEqual([ast.unparse(part) for part in node.decorator_list], ["property"])
+                    properties.add(node.name)
+                if isinstance(node, ast.Attribute) and isinstance(node.ctx, ast.Store):
+                    attributes.add(node.attr)
+        self.assertIn("start", properties)
+        self.assertEqual(properties & attributes, set())
+
 
 if __name__ == "__main__":
     unittest.main()
