@@ -3,7 +3,8 @@
 from askfurther.errors import BadBody, BadHistory, BadOperations, BadOthers, BadStart, NoRow
 from askfurther.forms import are_nexts, are_operations, in_order, is_index, is_name, is_row, is_text_in
 from askfurther.forms import joined, word_of
-from askfurther.machines import Machine, are_equal, followed
+from askfurther.leasts import merged
+from askfurther.machines import Machine, are_equal, followed, shows_of
 
 MOST_ROWS = 400
 MOST_OTHERS = 8
@@ -51,7 +52,8 @@ class Body:
             raise BadOthers()
         machines = {word: body.machine for word, body in others.items()}
         counts = joined([self.machine.counts] + [machine.counts for machine in list(machines.values())])
-        return body_of(followed(counts, self.machine, machines))
+        lines = followed(self.machine, machines)
+        return body_of(merged(counts, lines, self.machine.begin))
 
     def __len__(self):
         return len(self.machine.lines)
@@ -130,10 +132,3 @@ def can_come(told, line, counts):
     if line[0] != "ask" or not is_row(told) or len(told) != 2:
         return False
     return isinstance(told[0], str) and told[0] == line[1] and is_index(told[1], counts[line[1]])
-
-
-def shows_of(line):
-    """What a body shows that rests at this row."""
-    if line[0] == "go":
-        return ("hang",)
-    return (line[0], line[1])

@@ -35,6 +35,16 @@ def is_name(thing):
     return all([letter in LETTERS for letter in thing])
 
 
+def name_of(number):
+    """The name with this number: the letters from a to z, then the texts of two letters in their order, and so on."""
+    many = len(LETTERS)
+    name = LETTERS[number % many]
+    while number >= many:
+        number = number // many - 1
+        name = LETTERS[number % many] + name
+    return name
+
+
 def is_text_in(thing, table):
     """Whether it is a text that stands there; other objects may not be fit to be looked up in a dict."""
     return isinstance(thing, str) and thing in table
@@ -69,6 +79,11 @@ def are_nexts(nexts, operation, counts, many):
     if not is_row(nexts) or len(nexts) != counts[operation]:
         return False
     return all([is_index(index, many) for index in nexts])
+
+
+def are_unlike(one, other):
+    """Whether an operation has unlike numbers of answers in two dicts of operations."""
+    return any([operation in other and other[operation] != many for operation, many in one.items()])
 
 
 def joined(tables):

@@ -70,30 +70,36 @@ def nexts_of(line):
     return ()
 
 
+def shows_of(line):
+    """What a body shows that rests at this row."""
+    if line[0] == "go":
+        return ("hang",)
+    return (line[0], line[1])
+
+
 def firsts_of(lines, word):
     """What stands behind this word in the rows that begin with it, sorted, each once."""
     return sorted({line[1]: True for line in lines if line[0] == word})
 
 
-def trimmed(counts, lines, begin):
-    """The machine that does the same with just the rows of rest that some run comes to."""
-    stops = stops_of(lines)
+def cut(lines, stops, begin):
+    """The rows of rest that are come to from this one on, numbered in the order in which they are met."""
     met = rests_from(lines, stops, begin)
     places = {stop: place for place, stop in enumerate(met)}
-    kept = []
-    for place, stop in enumerate(met):
-        if lines[stop][0] == "ask":
-            nexts = tuple([places[stops[index]] for index in lines[stop][2]])
-            kept.append(("ask", lines[stop][1], nexts))
-        elif lines[stop][0] == "go":
-            kept.append(("go", place))
-        else:
-            kept.append(lines[stop])
-    return Machine(counts, kept, 0)
+    return [mapped(lines[stop], lambda index: places[stops[index]]) for stop in met]
 
 
-def followed(counts, machine, others):
-    """The machine that goes on with others[word] where the passed one ends with this word."""
+def mapped(line, place_of):
+    """The row, but with place_of(index) for each index of a row in it."""
+    if line[0] == "ask":
+        return ("ask", line[1], tuple([place_of(index) for index in line[2]]))
+    if line[0] == "go":
+        return ("go", place_of(line[1]))
+    return line
+
+
+def followed(machine, others):
+    """The rows of the machine, but going on with others[word] where it ends with this word."""
     lines = list(machine.lines)
     placed = []
     begins = {}
@@ -101,8 +107,7 @@ def followed(counts, machine, others):
         if word in others:
             begins[word] = begin_among(lines, placed, others[word])
     many = len(machine.lines)
-    own = [led_on(line, begins) for line in lines[:many]]
-    return trimmed(counts, own + lines[many:], machine.begin)
+    return [led_on(line, begins) for line in lines[:many]] + lines[many:]
 
 
 def begin_among(lines, placed, other):
@@ -114,7 +119,7 @@ def begin_among(lines, placed, other):
         if are_equal(earlier, other):
             return begin
     shift = len(lines)
-    lines.extend([shifted(line, shift) for line in other.lines])
+    lines.extend([mapped(line, lambda index: index + shift) for line in other.lines])
     placed.append((other, shift + other.begin))
     return shift + other.begin
 
@@ -123,13 +128,4 @@ def led_on(line, begins):
     """The row, but going on at begins[word] if it ends with such a word."""
     if line[0] == "end" and line[1] in begins:
         return ("go", begins[line[1]])
-    return line
-
-
-def shifted(line, shift):
-    """The row as it is told where all rows stand so many places further behind."""
-    if line[0] == "ask":
-        return ("ask", line[1], tuple([index + shift for index in line[2]]))
-    if line[0] == "go":
-        return ("go", line[1] + shift)
     return line

@@ -3,7 +3,7 @@
 from askfurther.bodies import body_of
 from askfurther.errors import BadOperations, BadSizes
 from askfurther.forms import are_counts, are_operations, in_order
-from askfurther.machines import trimmed
+from askfurther.leasts import merged
 from askfurther.numbering import Numbering
 from askfurther.programs import Program, loop_around, place_behind, place_inside
 
@@ -19,7 +19,7 @@ def written(operations, sizes, block):
         raise BadSizes()
     counts = in_order(operations)
     program = Program(counts, sizes, block)
-    return body_of(trimmed(counts, lines_of(program), 0))
+    return body_of(merged(counts, lines_of(program), 0))
 
 
 def lines_of(program):
@@ -27,7 +27,7 @@ def lines_of(program):
 
     A configuration is a tuple of a place and what the variables, sorted, hold there.
     """
-    found = Numbering()
+    found = Numbering(True)
     first = (0,) if (0,) in program.statements else ()
     found.number(configuration(first, (0,) * len(program.variables)))
     lines = []
