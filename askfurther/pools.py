@@ -19,14 +19,15 @@ def table_of(lines, begins):
     for place, line in enumerate(lines):
         if stops[place] == place:
             kept[owners[many + place]] = merged_line(line, owners, lambda index: owners[many + stops[index]])
-    states = {owner: own for owner, own in zip(owners, begins)}
+    states = dict(zip(owners, begins))
     found = Numbering(False)
     found.number(owners[0])
     places = list(range(len(owners)))
     table = {}
     done = 0
     while done < len(found.things):
-        for does, begin in states[found.things[done]].items():
+        own = states[found.things[done]]
+        for does, begin in own.items():
             clause = cut(kept, places, owners[many + stops[begin]])
             table[(name_of(done), does)] = tuple([named_line(line, found) for line in clause])
         done += 1

@@ -52,7 +52,8 @@ def parting_place(walk):
         first, second = both_shown(walk.one, walk.other, walk.met[done])
         if first != second:
             return done
-        for answer, pair in enumerate(pairs_behind(walk.one, walk.other, walk.met[done])):
+        behind = pairs_behind(walk.one, walk.other, walk.met[done])
+        for answer, pair in enumerate(behind):
             if not are_led_together(leaders, pair[0], many + pair[1]):
                 walk.take(pair, done, answer)
         done += 1
@@ -82,11 +83,13 @@ def straying_place(walk):
         first, second = both_shown(walk.one, walk.other, walk.met[done])
         if first != second and first != ("hang",):
             return done
+        behind = []
         if first == second:
-            for answer, pair in enumerate(pairs_behind(walk.one, walk.other, walk.met[done])):
-                if pair not in known:
-                    known[pair] = True
-                    walk.take(pair, done, answer)
+            behind = pairs_behind(walk.one, walk.other, walk.met[done])
+        for answer, pair in enumerate(behind):
+            if pair not in known:
+                known[pair] = True
+                walk.take(pair, done, answer)
         done += 1
     return -1
 

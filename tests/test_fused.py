@@ -72,7 +72,10 @@ class Fused(Checks):
             body = Body(COUNTS, random_rows(chance, COUNTS, 5, WORDS), start=chance.randrange(5))
             handlers = [Handler(*random_parts(chance, some(chance, 1), some(chance, 1), WORDS, ["p", "q"], 3))
                         for _ in range(3)]
-            self.holds(handlers, body, 3)
+            both = self.holds(handlers, body, 3)
+            # Alike states and rows are told as one, so that what is put together in any way is even equal.
+            self.assertEqual(both, fused(handlers[0], fused(handlers[1], handlers[2])))
+            self.assertEqual(both, fused(passing(), fused(both, passing())))
 
     def test_the_outer_one_handles_what_the_inner_one_asks(self):
         inner = one_state({"a": 2}, {"b": 2, "c": 1}, [("ask", "b", [1, 2]), ("ask", "c", [2]), ("answer", 1, "s")])

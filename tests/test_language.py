@@ -10,6 +10,10 @@ FOLDER = pathlib.Path(__file__).resolve().parent.parent / "askfurther"
 FILES = sorted(FOLDER.glob("**/*.py"))
 BARRED = re.compile(r"\b(type|typing|typing_extensions|enum|Enum|IntEnum|StrEnum|Flag|IntFlag|Generic|Protocol|ABC|ABCMeta"
                     r"|namedtuple|NamedTuple|TypedDict|TYPE_CHECKING|abstractmethod)\b|dataclass|overload|contextmanager")
+INTERFACE = {
+    "shown", "written", "passing", "handled", "fused", "parted", "within", "least", "pairs", "pairs_fault",
+    "parting_handler", "met", "way_to", "unmet", "answers",
+}
 METHODS = {"__init__", "__eq__", "__len__", "__getitem__", "__iter__", "__contains__"}
 
 
@@ -63,6 +67,63 @@ class Language(unittest.TestCase):
                 if isinstance(node, ast.arg) or isinstance(node, ast.Name) and isinstance(node.ctx, ast.Store):
                     name = node.arg if isinstance(node, ast.arg) else node.id
                     self.assertFalse(name.startswith("_") or name in dir(builtins), (path, name))
+
+    def test_no_local_name_is_that_of_a_class_or_an_import(self):
+        for path, _, tree in self.each():
+            taken = {part.name for part in tree.body if isinstance(part, ast.ClassDef)}
+            for part in tree.body:
+                if isinstance(part, ast.ImportFrom):
+                    taken |= {name.name for name in part.names}
+                    self.assertTrue(all(name.asname is None for name in part.names), path)
+            for node in ast.walk(tree):
+                name = node.arg if isinstance(node, ast.arg) else None
+                if isinstance(node, ast.Name) and isinstance(node.ctx, ast.Store):
+                    name = node.id
+                self.assertNotIn(name, taken, path)
+
+    def test_no_files_import_from_each_other(self):
+        imports = {path.stem: {part.module.split(".")[1] for part in tree.body if isinstance(part, ast.ImportFrom)}
+                   for path, _, tree in self.each()}
+        while imports:
+            free = [name for name, others in imports.items() if not others & set(imports)]
+            self.assertTrue(free, imports)
+            imports = {name: others for name, others in imports.items() if name not in free}
+
+    def test_each_import_and_function_is_used(self):
+        texts = {path: text for path, text, _ in self.each()}
+        for path, text, tree in self.each():
+            for part in tree.body:
+                for name in part.names if isinstance(part, ast.ImportFrom) else ():
+                    self.assertGreater(len(re.findall(rf"\b{name.name}\b", text)), 1, (path, name.name))
+                if isinstance(part, ast.FunctionDef) and part.name not in INTERFACE:
+                    found = sum(len(re.findall(rf"\b{part.name}\(|key={part.name}|: {part.name},", told)) for told in texts.values())
+                    self.assertGreater(found, 1, (path, part.name))
+
+    def test_loops_and_calls(self):
+        for path, _, tree in self.each():
+            for node in ast.walk(tree):
+                self.assertNotIsInstance(node, (ast.GeneratorExp, ast.SetComp, ast.Set, ast.Yield, ast.Try), path)
+                if isinstance(node, ast.Attribute):
+                    self.assertNotIn(node.attr, ("sort", "args", "format", "keys"), path)
+                if isinstance(node, ast.Call) and isinstance(node.func, ast.Name) and node.func.id in ("zip", "enumerate", "range"):
+                    self.assertIn((path, node.lineno, node.col_offset), self.at_once(path, tree))
+
+    def at_once(self, path, tree):
+        """Where the calls stand that are iterated on the spot."""
+        found = set()
+        for node in ast.walk(tree):
+            told = [node.iter] if isinstance(node, (ast.For, ast.comprehension)) else []
+            if isinstance(node, ast.Call) and isinstance(node.func, ast.Name) and node.func.id in ("list", "tuple", "sorted", "dict"):
+                told = node.args[:1]
+            found |= {(path, part.lineno, part.col_offset) for part in told}
+        return found
+
+    def test_what_tells_and_compares_changes_nothing(self):
+        for path, _, tree in self.each():
+            for node in ast.walk(tree):
+                if isinstance(node, ast.FunctionDef) and (node.name.startswith("__") or node.decorator_list) and node.name != "__init__":
+                    barred = (ast.Assign, ast.AugAssign, ast.For, ast.While, ast.Delete)
+                    self.assertFalse([part for part in ast.walk(node) if isinstance(part, barred)], (path, node.name))
 
     def test_no_name_is_a_method_and_an_attribute(self):
         methods, attributes = set(), set()
