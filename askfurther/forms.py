@@ -74,6 +74,13 @@ def word_of(row):
     return ""
 
 
+def texts_of(row):
+    """The texts of a row as a tuple, an empty one if there are others in it or it is no row."""
+    if is_row(row) and all([isinstance(part, str) for part in row]):
+        return tuple(row)
+    return ()
+
+
 def are_nexts(nexts, operation, counts, many):
     """Whether it is a row with an index of one of so many rows for each answer of the operation."""
     if not is_row(nexts) or len(nexts) != counts[operation]:

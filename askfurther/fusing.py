@@ -1,13 +1,13 @@
 """Fusing: a body of a body within a handler, and a handler of two that stand around one another."""
 
 from askfurther.bodies import body_of
-from askfurther.forms import in_order, joined, name_of
+from askfurther.forms import in_order, joined
 from askfurther.handlers import handler_of
-from askfurther.keepers import Keeper
+from askfurther.keepers import keeper_of_pool
 from askfurther.leasts import merged
 from askfurther.machines import mapped
 from askfurther.numbering import Numbering
-from askfurther.pools import table_of
+from askfurther.pools import Pool, owners_of, reduced
 from askfurther.wholes import whole_of
 
 
@@ -25,8 +25,8 @@ def fused(inner, outer):
     pair = Pair(inside, around)
     counts = in_order({**inside.counts, **around.counts})
     outside = in_order({**without(inside.outside, around.counts), **around.outside})
-    table = table_of(pair.lines, pair.begins)
-    return handler_of(Keeper(counts, outside, name_of(0), table))
+    pool = Pool([], pair.lines, pair.begins)
+    return handler_of(keeper_of_pool(counts, outside, reduced(pool, owners_of(pool), pair.begins)))
 
 
 def without(counts, others):

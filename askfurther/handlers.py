@@ -3,7 +3,7 @@
 from askfurther.bodies import is_line, line_of
 from askfurther.errors import BadHandler
 from askfurther.forms import are_operations, are_unlike, in_order, is_index, is_name, is_row, is_text_in, word_of
-from askfurther.keepers import Keeper, are_same, clauses_for, stands_of
+from askfurther.keepers import are_same, clauses_for, keeper_of_table, stands_of
 
 MOST_STATES = 8
 MOST_LINES = 20
@@ -28,7 +28,7 @@ class Handler:
             raise BadHandler("ends")
         for state, word in sorted(ends):
             table[(state, ("end", word))] = clause_of(ends[(state, word)])
-        self.keeper = Keeper(in_order(handled), in_order(further), start, table)
+        self.keeper = keeper_of_table(in_order(handled), in_order(further), start, table)
 
     def handled(self):
         """The numbers of answers of the operations that it handles."""

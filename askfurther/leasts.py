@@ -3,6 +3,9 @@
 from askfurther.machines import Machine, cut, mapped, nexts_of, shows_of, stops_of
 
 
+MOST_ROUNDS = 8
+
+
 class Parting:
     """Things, told by numbers, in groups: `owners` has the group of each thing, `members` the things of each group.
 
@@ -10,20 +13,38 @@ class Parting:
     one of them.
     """
 
-    def __init__(self, marks):
-        numbers = {}
-        self.owners = [numbers.setdefault(mark, len(numbers)) for mark in marks]
-        self.members = [{} for group in range(len(numbers))]
-        for thing, owner in enumerate(self.owners):
+    def __init__(self, owners):
+        self.owners = owners
+        many = 1 + max(owners, default=-1)
+        self.members = [{} for group in range(many)]
+        for thing, owner in enumerate(owners):
             self.members[owner][thing] = True
-        self.waiting = list(range(len(numbers)))
-        self.waits = [True] * len(numbers)
+        self.waiting = list(range(many))
+        self.waits = [True] * many
 
 
 def groups_of(marks, nexts):
-    """The group of each thing: alike are those with the same mark whose nexts, in order, are alike."""
-    parting = Parting(marks)
-    sources = sources_of(nexts)
+    """The group of each thing: alike are those with the same mark whose nexts, in order, are alike.
+
+    Most things are parted in few rounds; those that are not, as in long chains, would need one round for each link.
+    """
+    owners = numbered(marks)
+    for turn in range(MOST_ROUNDS):
+        finer = numbered([(owners[thing],) + tuple([owners[led] for led in row]) for thing, row in enumerate(nexts)])
+        if max(finer, default=0) == max(owners, default=0):
+            return owners
+        owners = finer
+    return groups_in(Parting(owners), sources_of(nexts))
+
+
+def numbered(marks):
+    """For each mark its number, in the order in which unlike ones come."""
+    numbers = {}
+    return [numbers.setdefault(mark, len(numbers)) for mark in marks]
+
+
+def groups_in(parting, sources):
+    """The group of each thing, when the groups of a parting are split until those that are alike stand together."""
     while parting.waiting:
         group = parting.waiting.pop()
         parting.waits[group] = False

@@ -4,7 +4,7 @@ from askfurther.bodies import body_of
 from askfurther.errors import Parted
 from askfurther.forms import is_index, is_row, joined, name_of
 from askfurther.handlers import handler_of
-from askfurther.keepers import Keeper
+from askfurther.keepers import keeper_of_table
 from askfurther.leasts import merged
 from askfurther.walks import Walk, begin_of, both_shown, pairs_behind, parting_place, straying_place, told_of
 
@@ -18,7 +18,7 @@ def parted(one, other):
 def walk_of(one, other):
     """The walk of two bodies, if their operations go together."""
     joined([one.machine.counts, other.machine.counts])
-    return Walk(one.machine, other.machine)
+    return Walk(one.machine, other.machine, begin_of(one.machine, other.machine))
 
 
 def least(body):
@@ -103,4 +103,5 @@ def parting_handler(one, other):
         if shows != ("hang",):
             table[(name_of(len(history)), shows)] = (("finish", word),)
     counts = {**one.machine.counts, **other.machine.counts}
-    return handler_of(Keeper({operation: counts[operation] for operation in asked}, {}, name_of(0), table))
+    handles = {operation: counts[operation] for operation in asked}
+    return handler_of(keeper_of_table(handles, {}, name_of(0), table))

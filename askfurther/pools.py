@@ -1,8 +1,4 @@
-"""Pools: all clauses of a handler as rows in one list, of which those that do the same are told as one.
-
-An "answer" row tells a state by its number there. For each state a dict tells, by what a body does, sorted, the
-row at which the clause begins; the state with the number 0 is the start.
-"""
+"""Pools: all clauses of a handler as rows in one list, of which those that do the same may be told as one."""
 
 from askfurther.forms import name_of
 from askfurther.leasts import groups_of
@@ -10,37 +6,65 @@ from askfurther.machines import cut, mapped, nexts_of, shows_of, stops_of
 from askfurther.numbering import Numbering
 
 
-def table_of(lines, begins):
-    """The least clauses that do the same, by the names of the states, as they are met, and what a body does."""
-    stops = stops_of(lines)
-    many = len(begins)
-    owners = owners_of(lines, stops, begins)
-    kept = {}
-    for place, line in enumerate(lines):
-        if stops[place] == place:
-            kept[owners[many + place]] = merged_line(line, owners, lambda index: owners[many + stops[index]])
-    states = dict(zip(owners, begins))
-    found = Numbering(False)
-    found.number(owners[0])
-    places = list(range(len(owners)))
+class Pool:
+    """The names of states, rows, and where the clauses begin; the state with the number 0 is the start.
+
+    An "answer" row tells a state by its number. `begins` has for each state a dict that tells, by what a body does,
+    sorted, the row at which the clause begins; several clauses may share their rows. `stops` has for each row the
+    one at which it rests.
+    """
+
+    def __init__(self, names, lines, begins):
+        self.names = names
+        self.lines = lines
+        self.begins = begins
+        self.stops = stops_of(lines)
+
+
+def pool_of(begin, stands, table):
+    """The pool of clauses that are told by tuples of a state and what a body does."""
+    names = [begin] + [state for state in stands if state != begin]
+    numbers = {name: number for number, name in enumerate(names)}
+    lines = []
+    begins = [{} for name in names]
+    for state, does in sorted(table):
+        shift = len(lines)
+        begins[numbers[state]][does] = shift
+        lines.extend([shifted(line, shift, numbers) for line in table[(state, does)]])
+    return Pool(names, lines, begins)
+
+
+def shifted(line, shift, numbers):
+    """The row of a clause where it stands behind so many others, telling a state by its number."""
+    if line[0] == "answer":
+        return ("answer", line[1], numbers[line[2]])
+    return mapped(line, lambda index: index + shift)
+
+
+def table_of(pool):
+    """The clauses of a pool by tuples of a state and what a body does."""
     table = {}
-    done = 0
-    while done < len(found.things):
-        own = states[found.things[done]]
+    for name, own in zip(pool.names, pool.begins):
         for does, begin in own.items():
-            clause = cut(kept, places, owners[many + stops[begin]])
-            table[(name_of(done), does)] = tuple([named_line(line, found) for line in clause])
-        done += 1
+            clause = cut(pool.lines, pool.stops, begin)
+            table[(name, does)] = tuple([named_line(line, pool.names) for line in clause])
     return table
 
 
-def owners_of(lines, stops, begins):
+def named_line(line, names):
+    """The row that tells a state by its name."""
+    if line[0] == "answer":
+        return ("answer", line[1], names[line[2]])
+    return line
+
+
+def owners_of(pool):
     """The groups of the states, then those of the rows: alike are those that do the same behind all that comes."""
-    many = len(begins)
-    marks = [("state", tuple(own)) for own in begins]
-    nexts = [tuple([many + stops[begin] for begin in own.values()]) for own in begins]
-    for place, line in enumerate(lines):
-        if stops[place] != place:
+    many = len(pool.begins)
+    marks = [("state", tuple(own)) for own in pool.begins]
+    nexts = [tuple([many + pool.stops[begin] for begin in own.values()]) for own in pool.begins]
+    for place, line in enumerate(pool.lines):
+        if pool.stops[place] != place:
             marks.append(("passed",))
             nexts.append(())
         elif line[0] == "answer":
@@ -48,19 +72,46 @@ def owners_of(lines, stops, begins):
             nexts.append((line[2],))
         else:
             marks.append(shows_of(line))
-            nexts.append(tuple([many + stops[index] for index in nexts_of(line)]))
+            nexts.append(tuple([many + pool.stops[index] for index in nexts_of(line)]))
     return groups_of(marks, nexts)
 
 
-def merged_line(line, owners, place_of):
-    """The row that tells the groups of rows and states in the place of these."""
-    if line[0] == "answer":
-        return ("answer", line[1], owners[line[2]])
-    return mapped(line, place_of)
+class Reducing:
+    """A pool whose states and rows are told by their groups, numbered in the order in which they are met."""
+
+    def __init__(self, pool, owners):
+        self.pool = pool
+        self.owners = owners
+        self.members = {owner: thing for thing, owner in enumerate(owners)}
+        self.met = Numbering(False)
+        self.met.number(owners[0])
+        self.places = Numbering(False)
+        self.lines = []
 
 
-def named_line(line, found):
-    """The row that tells the name of a state in the place of its group."""
-    if line[0] == "answer":
-        return ("answer", line[1], name_of(found.number(line[2])))
-    return line
+def reduced(pool, owners, begins):
+    """The pool of what is met from the start on by these clauses; the states and rows of a group are told as one."""
+    reducing = Reducing(pool, owners)
+    told = []
+    while len(told) < len(reducing.met.things):
+        own = begins[reducing.members[reducing.met.things[len(told)]]]
+        told.append({})
+        for does, begin in own.items():
+            told[-1][does] = place_in(reducing, begin)
+            take_lines(reducing)
+    return Pool([name_of(number) for number in range(len(told))], reducing.lines, told)
+
+
+def place_in(reducing, index):
+    """The number of the group of the row at which this one rests."""
+    return reducing.places.number(reducing.owners[len(reducing.pool.begins) + reducing.pool.stops[index]])
+
+
+def take_lines(reducing):
+    """Takes up all rows that can be come to from those that are numbered, breadth first."""
+    while len(reducing.lines) < len(reducing.places.things):
+        thing = reducing.members[reducing.places.things[len(reducing.lines)]]
+        line = reducing.pool.lines[thing - len(reducing.pool.begins)]
+        if line[0] == "answer":
+            line = ("answer", line[1], reducing.met.number(reducing.owners[line[2]]))
+        reducing.lines.append(mapped(line, lambda index: place_in(reducing, index)))

@@ -4,16 +4,16 @@ from askfurther.machines import nexts_of, shows_of
 
 
 class Walk:
-    """The pairs of rows of rest to which two machines come behind the same histories.
+    """The pairs of rows of rest to which two machines come behind the same histories, beginning at one of them.
 
     `met` has them in the order of the first histories behind which they are met, the shorter ones ahead; `origins`
     has for each one the number of the pair ahead of it, and the answer that led on.
     """
 
-    def __init__(self, one, other):
+    def __init__(self, one, other, begin):
         self.one = one
         self.other = other
-        self.met = [begin_of(one, other)]
+        self.met = [begin]
         self.origins = [(-1, -1)]
 
     def take(self, pair, number, answer):
