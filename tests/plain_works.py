@@ -261,10 +261,20 @@ class Rounds:
 
 
 def random_handler(random, handled, further, words, states, most):
-    """The parts of a handler whose clauses mostly answer."""
+    """The parts of a handler whose clauses mostly answer, by what they have asked further out."""
     clauses, ends = {}, {}
     for state, name in itertools.product(states, handled):
-        clauses[state, name] = random_clause(random, further, handled[name], words, states, random.randrange(1, most + 1))
+        if not handled[name] or random.random() < 0.2:
+            clauses[state, name] = random_clause(random, further, handled[name], words, states, random.randrange(1, most + 1))
+            continue
+        rows = []
+        if further and random.random() < 0.6:
+            operation = random.choice(sorted(further))
+            rows.append(("ask", operation, tuple(1 + answer for answer in range(further[operation]))))
+        for _ in range(max(1, len(rows) and len(rows[0][2]))):
+            answer = ("answer", random.randrange(handled[name]), random.choice(states))
+            rows.append(random.choice([answer] * 5 + [("finish", random.choice(words))]))
+        clauses[state, name] = rows
     for state, word in itertools.product(states, words):
         if random.random() < 0.3:
             ends[state, word] = random_clause(random, further, 0, words, states, random.randrange(1, most + 1))
@@ -272,33 +282,39 @@ def random_handler(random, handled, further, words, states, most):
 
 
 def random_functions(random, operations, handlers, many, most, words, recursive=True):
-    """Rows of functions that run later ones, and by "call" any of those that cannot come to a "handle" row of theirs."""
+    """Rows of functions that run later ones, or, if they are recursive, by "call" themselves."""
     names = ["main", "f", "g", "h", "i", "j"][:many]
     functions = []
     for number, name in enumerate(names):
-        size = random.randrange(1, most + 1)
-        rows = []
-        for _ in range(size):
-            rows.append(random_row(random, operations, handlers, names, number, size, words, recursive))
+        size = random.randrange(min(3, most), most + 1)
+        rows = [random_row(random, operations, handlers, names, number, (at, size), words, recursive) for at in range(size)]
+        if random.random() < 0.8:
+            rows[-1] = ("end", random.choice(words))
         functions.append((name, rows))
     return functions
 
 
-def random_row(random, operations, handlers, names, number, size, words, recursive):
-    word = random.choice(["end", "ask", "ask", "ask", "go", "call", "call", "handle", "handle"])
+def random_row(random, operations, handlers, names, number, place, words, recursive):
+    """A row that mostly leads to later rows."""
+    at, size = place
+
+    def following():
+        return random.randrange(at + 1 if at + 1 < size and random.random() < 0.8 else 0, size)
+
+    word = random.choice(["end", "ask", "ask", "ask", "ask", "ask", "go", "call", "call", "handle", "handle", "handle"])
     later = names[number + 1:]
-    nexts = {word: random.randrange(size) for word in words if random.random() < 0.7}
+    nexts = {word: following() for word in words if random.random() < 0.7}
     if random.random() < 0.3:
         nexts = random.sample(sorted(nexts.items()), len(nexts))
     if word == "call" and recursive and number > 0 and random.random() < 0.5:
         return ("call", names[number], nexts)
     if word == "call" and later:
         return ("call", random.choice(later), nexts)
-    if word == "handle" and later and handlers:
-        return ("handle", random.choice(sorted(handlers)), random.choice(later), nexts)
+    if word in ("call", "handle") and later and handlers:
+        return ("handle", random.choice(sorted(handlers)), random.choice(later[:2]), nexts)
     if word == "go":
-        return ("go", random.randrange(size))
-    if word == "ask" and operations:
+        return ("go", following())
+    if word != "end" and operations:
         operation = random.choice(sorted(operations))
-        return ("ask", operation, tuple(random.randrange(size) for _ in range(operations[operation])))
+        return ("ask", operation, tuple(following() for _ in range(operations[operation])))
     return ("end", random.choice(words))

@@ -139,7 +139,7 @@ class Large(Checks):
         other = ring(7, "e", [6])
         told = parted_handlers(one, other)
         self.assertEqual(told, ((("a", 0),) * 6, ("ask", "a"), (("e", 0),) * 7, ("answer", 0), ("answer", 1)))
-        for many, asks in ((8, "eeeee"), (7, "e" * 19)):
+        for many, asks in ((8, "eeeee"), (7, "e" * 18)):
             first = counters(8, many, asks, "a")
             second = counters(8, many, asks, "c")
             told = parted_handlers(first, second)

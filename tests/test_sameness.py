@@ -57,14 +57,14 @@ def deep(chance):
     return one, Handler({"a": 2, "b": 2}, {"e": 2}, "p", {**clauses, at: rows}, {} if chance.random() < 0.3 else ends)
 
 
-def stirred(chance, handler):
+def stirred(chance, handler, counts=COUNTS):
     """A handler that is alike: each state in two copies, "go" rows put in, what is let by told by clauses."""
     handles, further = handler.handled(), handler.further()
-    for name in COUNTS:
+    for name in counts:
         if name not in handles and chance.random() < 0.4:
-            handles[name] = further[name] = COUNTS[name]
+            handles[name] = further[name] = counts[name]
     words = sorted({word for _, word in handler.ends()} | {chance.choice(["x", "z"])})
-    side = sides.Side(handler, {**COUNTS, **handles})
+    side = sides.Side(handler, {**counts, **handles})
     clauses, ends = {}, {}
     for state, copy in itertools.product(handler.states(), "mn"):
         for name in handles:
