@@ -85,7 +85,7 @@ def lines_of(text):
     if not isinstance(text, str):
         raise NoText(-1)
     lines = text.split("\n")
-    if len(lines) > 1 and lines[-1] == "":
+    if lines[-1] == "":
         lines.pop()
     return lines
 

@@ -3,6 +3,8 @@
 from askfurther.bodies import Body
 from askfurther.errors import BadBody
 from askfurther.handlers import Handler, passing
+from askfurther.standing import Run, Stand
+from askfurther.works import Work
 
 
 def nested(depth, make, seed):
@@ -29,7 +31,8 @@ NOTHINGS = [
     b"", b"coin", bytearray(b"coin"), memoryview(b"coin"), set(), {"coin"}, frozenset(), frozenset(("coin",)),
     range(2), slice(0, 1), int, str, list, Body, len, some, some(), iter([1]), iter({}), zip(), map(len, []),
     {"coin": 2}.keys(), {"coin": 2}.items(), {"coin": 2}.values(), enumerate([]), reversed([1]), lambda: 1, object(),
-    Plain(), SMALL, passing(), Handler, BadBody(0), ValueError("coin"), property(), super(Plain),
+    Plain(), SMALL, passing(), Handler, BadBody(0), ValueError("coin"), property(), super(Plain), Stand(SMALL), Run(SMALL),
+    Stand(SMALL)(0), Work({}, {}, [("main", [("end", "x")])]), Work,
 ]
 INTEGERS = [-1, 10 ** 29, -(10 ** 29)]
 ROWS = [

@@ -4,7 +4,7 @@ import random
 import time
 import unittest
 
-from askfurther.leasts import groups_of
+from askfurther.leasts import Parting, groups_in, groups_of, numbered, sources_of
 
 
 def by_rounds(marks, nexts):
@@ -20,7 +20,10 @@ def by_rounds(marks, nexts):
 
 class Groups(unittest.TestCase):
     def holds(self, marks, nexts):
-        told = groups_of(marks, nexts)
+        self.parted_rightly(groups_in(Parting(numbered(marks)), sources_of(nexts)), marks, nexts)
+        return self.parted_rightly(groups_of(marks, nexts), marks, nexts)
+
+    def parted_rightly(self, told, marks, nexts):
         self.assertEqual(len(told), len(marks))
         self.assertEqual(sorted(set(told)), list(range(len(set(told)))))
         self.assertEqual(len(set(zip(told, by_rounds(marks, nexts)))), len(set(by_rounds(marks, nexts))))

@@ -301,6 +301,71 @@ class Alike(Checks):
             self.assertEqual((told[0], told[2][0]), ((("a", 0),) * 2, ("e", 1 if states == "w" else 0)))
             self.assertEqual(len(told[2]), 3)
 
+    def clauses_of_t_and_u(self, swapped, longer, unlike):
+        """Two handlers that are in the state t behind one answer from further out, in u behind the other one and some more.
+
+        The clauses that are told ask "f" in the one handler where they ask "g" in the other one.
+        """
+        rows = [("ask", "e", (2, 1) if swapped else (1, 2)), ("answer", 0, "t")]
+        rows += [("ask", "f", (at + 1,)) for at in range(2, 2 + longer)] + [("answer", 0, "u")]
+        tables = []
+        for word in "fg":
+            clauses = {("s", "a"): rows, ("s", "b"): [("answer", 0, "s")]}
+            for state in "tu":
+                for name in "ab":
+                    many = unlike.get(state + name, 9)
+                    clauses[state, name] = [("ask", word if at == many else "f", (at + 1,)) for at in range(min(many, 3) + 1)] + [("answer", 0, "s")]
+            tables.append(Handler({"a": 1, "b": 1}, {"e": 2, "f": 1, "g": 1}, "s", clauses, {}))
+        return tables
+
+    def test_clauses_that_began_behind_histories_of_unlike_lengths(self):
+        for swapped, longer in itertools.product((False, True), (1, 2, 3)):
+            history = (("e", 0),) + (("f", 0),) * longer
+            first = {"ta": longer, "ua": 0}
+            self.assertEqual(self.holds(*self.clauses_of_t_and_u(swapped, longer, first))[1:3], (("ask", "a"), history))
+            # What is done last comes ahead of the history, whichever clause began first.
+            for state, unlike in (("u", {"tb": longer, "ua": 0}), ("t", {"ta": longer, "ub": 0})):
+                answer = int((state == "u") != swapped)
+                told = self.holds(*self.clauses_of_t_and_u(swapped, longer, unlike))
+                self.assertEqual(told[1:3], (("ask", "a"), (("e", answer),) + (("f", 0),) * longer))
+            # A shorter history comes ahead of both.
+            told = self.holds(*self.clauses_of_t_and_u(swapped, longer, {"tb": longer - 1, "ua": 0}))
+            self.assertEqual(told[1:3], (("ask", "b"), (("e", int(swapped)),) + (("f", 0),) * (longer - 1)))
+
+    def test_asks_come_ahead_of_the_history_that_led_to_them(self):
+        # The same state comes behind the answer 1 and a first history, and behind the answer 0 and a later one.
+        clauses = {("s", "a"): [("ask", "e", (1, 2)), ("answer", 1, "t"), ("answer", 0, "t")], ("t", "a"): [("answer", 0, "t")]}
+        one = Handler({"a": 2}, {"e": 2}, "s", clauses, {})
+        two = Handler({"a": 2}, {"e": 2}, "s", clauses, {("t", "x"): [("finish", "y")]})
+        self.assertEqual(self.holds(one, two), ((("a", 0),), ("end", "x"), (("e", 1),), ("finish", "x"), ("finish", "y")))
+
+    def test_histories_that_were_met_in_another_order(self):
+        # The way by 1 is long in the first clause, the way by 0 in the second one.
+        chain = [("ask", "f", (at + 1,)) for at in range(2, 6)]
+        clauses = {("s", "a"): [("ask", "e", (1, 2)), ("answer", 0, "t")] + chain + [("answer", 0, "u")],
+                   ("t", "a"): [("ask", "f", (at + 1,)) for at in range(4)] + [("answer", 0, "v")], ("u", "a"): [("answer", 0, "w")],
+                   ("v", "a"): [("answer", 0, "v")], ("w", "a"): [("answer", 0, "w")]}
+        two = Handler({"a": 1}, {"e": 2, "f": 1}, "s", clauses, {})
+        for states, answer in (("vw", 0), ("v", 0), ("w", 1)):
+            one = Handler({"a": 1}, {"e": 2, "f": 1}, "s", clauses, {(state, "x"): [("finish", "y")] for state in states})
+            self.assertEqual(self.holds(one, two)[:3], ((("a", 0),) * 2, ("end", "x"), (("e", answer),) + (("f", 0),) * 4))
+
+    def test_words_of_the_parting_body_are_those_of_no_clause(self):
+        # Whatever short words the clauses know, the answers 0 and 1 are told apart by others.
+        words = list("abcdefghijklmnop")
+        for told in ({(state, word): [("finish", "same")] for state in "st" for word in words},
+                     {("s", "z"): [("ask", "e", tuple(range(1, 7)))] + [("finish", word) for word in words[:6]]}):
+            handlers = []
+            for answer in (0, 1):
+                clauses = {("s", "k"): [("answer", 0, "t")], ("t", "k"): [("answer", answer, "t")]}
+                handlers.append(Handler({"k": 2}, {"e": 6}, "s", clauses, told))
+            self.assertEqual(self.holds(*handlers)[:2], ((("k", 0),), ("ask", "k")))
+        one = Handler({"k": 0}, {}, "s", {("s", "k"): [("finish", "a")]}, {})
+        two = Handler({"k": 0}, {}, "s", {("s", "k"): [("finish", "b")]}, {("s", "z"): [("finish", "z")]})
+        self.assertEqual(self.holds(one, two)[3:], (("finish", "a"), ("finish", "b")))
+        three = Handler({"k": 1}, {}, "s", {("s", "k"): [("finish", "a")]}, {})
+        self.assertEqual(self.holds(three, Handler({"k": 1}, {}, "s", {("s", "k"): [("answer", 0, "s")]}, {}))[3:], (("finish", "a"), ("answer", 0)))
+
     def test_operations_that_are_let_by(self):
         by = Handler({"a": 2}, {"a": 2}, "s", {("s", "a"): [("go", 2), ("answer", 0, "s"), ("ask", "a", (1, 3)), ("answer", 1, "s")]},
                      {("s", "x"): [("finish", "x")]})

@@ -410,7 +410,7 @@ class Wrong(Checks):
 
     def test_shows_that_never_come(self):
         wrong = NOTHINGS + INTEGERS + ROWS + DICTS + ["coin", "hang", ("hang",), ["hang"], ("end", "done"), ("end", "coin"), ("ask", "tick"), ("ask", "even"),
-                                                      ("ask", "coin", ()), ("end",), ("end", None), ("end", ["even"]), (["end"], "even"), {"end": "even"}]
+                                                      ("ask", "coin", ()), ("end",), ("end", None), ("end", ["even"]), ("go", "even"), ("finish", "even"), ("even", "end"), (["end"], "even"), {"end": "even"}]
         for shows in wrong:
             self.assertIsNone(least_asks(WORK, shows))
             self.assertIsNone(way_out(WORK, shows))

@@ -27,7 +27,7 @@ NO_ROWS = [
     "ask", "ask coin ", "ask coin 1 ", "ask coin  1", "ask coin 1,2", "ask coin -1", "ask coin 01", "ask coin +1", "ask coin x", "ask 1 2", "ask Coin 1",
     "ask coin 1\t2", "ask coin " + "1" * 31, "ask toolongname 1", "end", "end ", "end x y", "end 1", "end X", "end x ", " end x", "end\tx", "go", "go x",
     "go 1 2", "go 01", "go 00", "go -1", "go 1 ", "go " + "9" * 31, "answer", "answer 0", "answer 0 low 1", "answer low 0", "answer 00 low", "answer 0 Low",
-    "finish", "finish x y", "finish 0", "leave x", "", " ", "End x", "END x", "1 end x", "end x,", "clause a b", "start 0", "end tabs\t",
+    "finish", "finish x y", "finish 0", "leave x", "leave 0", "leave 0 low", "leave x 0 1", "", " ", "End x", "END x", "1 end x", "end x,", "clause a b", "start 0", "end tabs\t",
 ]
 
 
@@ -309,7 +309,9 @@ class Handlers(Checks):
             counters.append(Handler({name: 1}, {}, "sa", clauses, {("sh", "x"): [("finish", "y")]}))
         both = fused(*counters)
         lines = handler_text(both).split("\n")
-        self.assertEqual(len([line for line in lines if line.startswith("clause ")]), 128)
+        heads = [line for line in lines if line.startswith("clause ")]
+        self.assertEqual(heads, [f"clause {state} {name}" for state in sorted(both.states()) for name in "ab"])
+        self.assertEqual((len(heads), heads[:3]), (128, ["clause a a", "clause a b", "clause aa a"]))
         self.refused(BadHandler, lambda: read_handler(handler_text(both)), "clauses")
         chain = Body({"a": 1}, [("ask", "a", [at + 1]) for at in range(399)] + [("end", "x")])
         body = chain.then({"x": chain.then({"x": chain})})

@@ -144,7 +144,8 @@ class Refused(Checks):
         self.assertEqual(made(handlers=six).handlers(), six)
 
     def test_no_row_of_functions(self):
-        for thing in NO_ROWS + [(), [], [("f" + letter, [("end", "x")]) for letter in "abcdefg"]]:
+        for thing in NO_ROWS + [(), [], [("f" + letter, [("end", "x")]) for letter in "abcdefg"],
+                                [("main", [("end", "x")])] + [("f" + letter, [("end", "x")]) for letter in "abcdef"]]:
             self.bad((), thing)
         six = [("main", [("end", "x")])] + [("f" + letter, [("end", "x")]) for letter in "abcde"]
         self.assertEqual(len(made(functions=six).functions()), 6)
