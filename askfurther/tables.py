@@ -29,7 +29,7 @@ def exits(work, function, stack):
 
 
 def stack_of(thing):
-    """The stack that a row of rows of texts tells; () in the place of a row that is none, as no handler is."""
+    """The stack that a row of rows tells, None if it is no row; what is no row of texts in it becomes (), no pair."""
     if not is_row(thing):
         return None
     return tuple([texts_of(pair) for pair in thing])

@@ -406,6 +406,14 @@ class Alike(Checks):
                     self.refused(Mismatch, lambda: call(one, other), operation)
                     self.refused(Mismatch, lambda: call(other, one), operation)
 
+    def test_what_is_passed_is_not_changed(self):
+        told = [(handler.clauses(), handler.ends(), handler.states()) for handler in (FLIP, LONG, passing())]
+        for one, other in itertools.product((FLIP, LONG, passing()), repeat=2):
+            for call in (parted_handlers, within_handlers, parting_body):
+                self.assertEqual(call(one, other), call(one, other))
+            self.assertEqual(least_handler(fused(one, other)), least_handler(fused(one, other)))
+        self.assertEqual([(handler.clauses(), handler.ends(), handler.states()) for handler in (FLIP, LONG, passing())], told)
+
     def test_arguments_by_name(self):
         for call in (parted_handlers, within_handlers, parting_body):
             self.assertIsNone(call(other=FLIP, one=LONG))
@@ -451,11 +459,15 @@ class Faults(Checks):
                 self.assertEqual(told, sides.pairs_fault(one, other, row))
                 self.assertEqual(state_pairs_fault(one, other, tuple(row)), told)
                 found.add(told and told[0])
-                what = chance.randrange(3)
+                what = chance.randrange(4)
+                pair = (chance.choice(one.states()), chance.choice(other.states()))
                 if what == 0 and row:
                     row.pop(chance.randrange(len(row)))
+                elif what == 1 and row:
+                    row[chance.randrange(len(row))] = pair
+                elif what == 2 and row:
+                    row.insert(chance.randrange(len(row) + 1), chance.choice(row))
                 else:
-                    pair = (chance.choice(one.states()), chance.choice(other.states()))
                     row.insert(chance.randrange(len(row) + 1), pair)
         self.assertEqual(found, {None, "begin", "shows", "step"})
 
